@@ -1,0 +1,172 @@
+"""What the tests share: plain ways beside the clever ones, and values that are nearly right.
+
+Here all of Python may be used, so what stands here goes by Fraction, and by `type(..) is`, where the package cannot.
+"""
+
+from fractions import Fraction
+
+from flutterheld import errors
+
+ODD = (
+    None, True, False, 0, 1, -1, 2, 10 ** 39, -10 ** 39, "", "missed", "1", "a\nb~", (), [], {}, (0, 1), (1, 0), (2, 2),
+    (True, 1), (1, True), (1, -1), (0, 2), [0, 1], ((0, 1),), ((), ()), {0: 1}, {(): ((1, 2), [None])}, (1, 2, 3), (3, 2, 1),
+    errors.TapeError(), errors.Cut(1, 0), errors.Wrong([None]), object(),
+)
+
+
+def deep(many):
+    """A value that is so many tuples, lists and dicts deep."""
+    thing = None
+    for at in range(many):
+        thing = ((thing, thing), [thing], {at: thing})[at % 3]
+    return thing
+
+
+def nearly(thing):
+    """Values like a tuple, or what stands in one, changed at one place each."""
+    yield from ODD
+    yield deep(20)
+    if type(thing) is int:
+        yield from (thing + 1, thing - 1, -thing, bool(thing), str(thing), (thing,), thing * 10 ** 20)
+    if type(thing) is str:
+        yield from (thing + " ", thing[1:], thing.upper(), [thing])
+    if type(thing) is not tuple:
+        return
+    yield list(thing)
+    yield thing[::-1]
+    yield thing + thing
+    yield {at: part for at, part in enumerate(thing)}
+    if len(thing) == 2 and [type(part) for part in thing] == [int, int]:
+        yield from ((thing[0] * 2, thing[1] * 2), (-thing[0], -thing[1]), (thing[0] + thing[1], thing[1]))
+    for at, part in enumerate(thing):
+        yield thing[:at] + thing[at + 1:]
+        yield thing[:at] + (part,) + thing[at:]
+        for other in nearly(part):
+            yield thing[:at] + (other,) + thing[at + 1:]
+
+
+def fraction(one):
+    return Fraction(one[0], one[1])
+
+
+def told(number):
+    """The FRACTION of a number of Python's own."""
+    number = Fraction(number)
+    return (number.numerator, number.denominator)
+
+
+# The forms once more, each one by itself.
+
+def is_int(thing):
+    return type(thing) is int
+
+
+def is_fraction(thing):
+    return (type(thing) is tuple and [type(part) for part in thing] == [int, int] and thing[1] > 0
+            and told(Fraction(thing[0], thing[1])) == thing)
+
+
+def is_lot(thing):
+    return type(thing) is tuple and all(map(is_int, thing)) and sorted(set(thing)) == list(thing)
+
+
+def are_bounds(thing):
+    if type(thing) is not tuple or len(thing) != 6:
+        return False
+    if not all(is_int(thing[at]) and thing[at] > 0 for at in (0, 3, 4, 5)):
+        return False
+    return thing[3] <= thing[4] and all(is_fraction(thing[at]) and thing[at][0] >= 0 for at in (1, 2))
+
+
+def is_run(bounds, thing):
+    return is_int(thing) and bounds[3] <= thing <= bounds[4]
+
+
+def is_row(bounds, thing):
+    return type(thing) is tuple and all(is_run(bounds, part) for part in thing)
+
+
+def is_led(bounds, thing):
+    return is_row(bounds, thing) and thing[:bounds[5]] == (bounds[4],) * bounds[5]
+
+
+def is_gapped(bounds, thing):
+    return (type(thing) is tuple and len(thing) == 2 and is_row(bounds, thing[0])
+            and is_int(thing[1]) and thing[1] > 0)
+
+
+def is_ride(bounds, thing):
+    if type(thing) is not tuple or not all(map(is_fraction, thing)):
+        return False
+    cells = [fraction(part) for part in thing]
+    return (all(cell >= bounds[0] for cell in cells)
+            and all(abs(cells[at] - cells[at + 1]) <= fraction(bounds[1]) for at in range(len(cells) - 1)))
+
+
+def is_telling(bounds, thing):
+    return type(thing) is tuple and len(thing) == 2 and is_fraction(thing[0]) and is_ride(bounds, thing[1])
+
+
+def is_hearing(thing):
+    if type(thing) is not tuple or not all(map(is_fraction, thing)):
+        return False
+    return sorted(thing, key=fraction) == list(thing)
+
+
+def is_format(thing):
+    if type(thing) is not tuple or len(thing) != 4 or not are_bounds(thing[0]):
+        return False
+    return all(map(is_int, thing[1:])) and thing[1] > 0 and thing[2] > 0 and thing[3] >= 0
+
+
+def is_body(form, thing):
+    return is_row(form[0], thing) and sum(thing) == form[1]
+
+
+def is_full(form, thing):
+    lead = (form[0][4],) * form[0][5]
+    return type(thing) is tuple and any(
+        thing[:at] == lead and thing[-len(lead):] == lead and is_row(form[0], thing) and is_body(form, thing[at:-len(lead)])
+        for at in (len(lead),) if len(thing) >= 2 * at)
+
+
+def is_harm(thing):
+    if type(thing) is not tuple or len(thing) != 2 or type(thing[0]) is not str:
+        return False
+    if thing[0] == "missed":
+        return is_lot(thing[1]) and all(index >= 0 for index in thing[1])
+    return thing[0] == "clicks" and is_hearing(thing[1]) and len(set(thing[1])) == len(thing[1])
+
+
+# BOUNDS of all sorts.
+
+DRIFTS = ((0, 1), (1, 4), (1, 1), (7, 3))
+SHIFTS = ((0, 1), (1, 6), (1, 1), (5, 2))
+RUNS = ((1, 1), (1, 2), (2, 2), (2, 3), (1, 3), (2, 5), (3, 4), (5, 7))
+
+
+def bounds_of_all_sorts(leads):
+    return [(1, drift, shift, lo, most, lead)
+            for drift in DRIFTS for shift in SHIFTS for lo, most in RUNS for lead in leads]
+
+
+def some_ride(chance, bounds, cells):
+    """A RIDE over so many cells that goes up and down by chance, and often touches what it may not pass."""
+    drift, lasting = fraction(bounds[1]), bounds[0] + chance.choice((0, 0, 1, Fraction(7, 3)))
+    ride = []
+    for _ in range(cells):
+        ride.append(told(lasting))
+        lasting = max(Fraction(bounds[0]), lasting + drift * chance.choice((-1, 0, 1, Fraction(1, 3))))
+    return tuple(ride)
+
+
+def some_telling(chance, bounds, cells):
+    return (told(Fraction(chance.randint(-50, 50), chance.randint(1, 7))), some_ride(chance, bounds, cells))
+
+
+def some_row(chance, bounds, runs):
+    return tuple(chance.randint(bounds[3], bounds[4]) for _ in range(runs))
+
+
+def some_shifts(chance, bounds, many):
+    return tuple(told(fraction(bounds[2]) * chance.choice((-1, 0, 1, Fraction(1, 3), Fraction(-2, 5)))) for _ in range(many))
