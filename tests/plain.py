@@ -170,3 +170,63 @@ def some_row(chance, bounds, runs):
 
 def some_shifts(chance, bounds, many):
     return tuple(told(fraction(bounds[2]) * chance.choice((-1, 0, 1, Fraction(1, 3), Fraction(-2, 5)))) for _ in range(many))
+
+
+# Whether inequalities can all be kept at once: by the simplex method, in exact numbers.
+
+def can_be_kept(rules, many):
+    """Whether numbers from 0 on, so many, keep all rules (factors, most): their factors times them come to at most most."""
+    # Each rule gets a number that fills it up to its most; those below 0 are turned, and begin with a number of their own,
+    # which has to come to 0.
+    width = many + len(rules)
+    table, basis, lacks = [], [], []
+    for at, (factors, most) in enumerate(rules):
+        line = [Fraction(factor) for factor in factors] + [Fraction(int(at == other)) for other in range(len(rules))]
+        sign = -1 if most < 0 else 1
+        table.append([sign * part for part in line] + [sign * Fraction(most)])
+        basis.append(width + at if sign < 0 else many + at)
+        lacks.append(sign < 0)
+    goal = [sum((line[at] for line, lack in zip(table, lacks) if lack), Fraction(0)) for at in range(width + 1)]
+    while True:
+        # By Bland's rule, always the first one that helps, it cannot go round in circles.
+        column = next((at for at in range(width) if goal[at] > 0), None)
+        if column is None:
+            return goal[width] == 0
+        _, _, row = min((line[width] / line[column], basis[at], at) for at, line in enumerate(table) if line[column] > 0)
+        turn_about(table, goal, row, column)
+        basis[row] = column
+
+
+def turn_about(table, goal, row, column):
+    pivot = table[row][column]
+    table[row] = [part / pivot for part in table[row]]
+    for line in table[:row] + table[row + 1:] + [goal]:
+        factor = line[column]
+        if factor != 0:
+            line[:] = [part - factor * other for part, other in zip(line, table[row])]
+
+
+def are_heard_alike(bounds, row, run, gap):
+    """Whether some HEARING FITS both row + (run,) and row + (gap,), asked of all TELLINGS at once."""
+    cell, drift, shift = bounds[0], fraction(bounds[1]), fraction(bounds[2])
+    first, other = sum(row) + run, sum(row) + gap
+    many = first + other + 2
+    rules = []
+
+    def rule(parts, most):
+        rules.append(([parts.get(at, 0) for at in range(many)], Fraction(most)))
+
+    # What a cell lasts above cell is a number from 0 on; the begins differ by the last number but one less the last one.
+    for start, cells in ((0, first), (first, other)):
+        for at in range(start, start + cells - 1):
+            rule({at: 1, at + 1: -1}, drift)
+            rule({at: -1, at + 1: 1}, drift)
+    marks = [(sum(row[:at]), sum(row[:at])) for at in range(len(row) + 1)] + [(first, other)]
+    for here, there in marks:
+        parts = {at: 1 for at in range(here)}
+        parts.update({first + at: -1 for at in range(there)})
+        parts.update({many - 2: 1, many - 1: -1})
+        apart = (here - there) * cell
+        rule(parts, 2 * shift - apart)
+        rule({at: -part for at, part in parts.items()}, 2 * shift + apart)
+    return can_be_kept(rules, many)

@@ -13,6 +13,13 @@ INTERFACE = {
              "is_format(thing) is_body(form,thing) is_full(form,thing) is_harm(thing) lead_of(bounds)",
     "rows": "cells_of(row) distances_of(row) length_of(row) mirrored(row) rows_over(bounds,cells)",
     "rides": "cell_moments(telling) mark_moments(telling,row) told_back(telling) steady(begin,cell,many)",
+    "hearings": "hearing_of(telling,row,shifts) heard_back(hearing) gives(bounds,row,telling,hearing) "
+                "is_kept(inequality,telling) inequalities(bounds,row,hearing)",
+    "pull": "phi(bounds,t) strain(bounds,row) pull(bounds) pull_by_rows(bounds,cells) turn(bounds) pull_row(bounds)",
+    "sure": "margin(bounds) is_sure(bounds) least_cell(drift,shift,lo,most,lead) least_lead(cell,drift,shift,lo,most)",
+    "slips": "heard_alike(bounds,run,gap) slip_of(bounds) is_slip(bounds,thing)",
+    "harms": "gap_margin(bounds) least_watchful_cell(drift,shift,lo,most,lead) least_watchful_lead(cell,drift,shift,lo,most) "
+             "is_watchful(bounds) is_harm_of(hearing,thing) is_mild(form,slot,hearing,thing) harmed(hearing,harm)",
 }
 
 
