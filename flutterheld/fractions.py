@@ -102,10 +102,15 @@ def are_within(one, other, most):
 
 def merged(some, others):
     """The list of the FRACTIONS of two lists or tuples that never fall, put in order."""
+    return merged_by(compared, some, others)
+
+
+def merged_by(order, some, others):
+    """As merged, of anything, by a function that tells of two which one comes first, as compared does."""
     found = []
     at = 0
     for other in others:
-        while at < len(some) and compared(some[at], other) <= 0:
+        while at < len(some) and order(some[at], other) <= 0:
             found.append(some[at])
             at += 1
         found.append(other)
@@ -114,7 +119,11 @@ def merged(some, others):
 
 def in_order(some):
     """The list of these FRACTIONS from the least to the greatest, as often as each is there."""
+    return in_order_by(compared, some)
+
+
+def in_order_by(order, some):
     if len(some) < 2:
         return list(some)
     half = len(some) // 2
-    return merged(in_order(some[:half]), in_order(some[half:]))
+    return merged_by(order, in_order_by(order, some[:half]), in_order_by(order, some[half:]))

@@ -203,7 +203,7 @@ def turn_about(table, goal, row, column):
     for line in table[:row] + table[row + 1:] + [goal]:
         factor = line[column]
         if factor != 0:
-            line[:] = [part - factor * other for part, other in zip(line, table[row])]
+            line[:] = [part - factor * other if other else part for part, other in zip(line, table[row])]
 
 
 def are_heard_alike(bounds, row, run, gap):
@@ -230,3 +230,71 @@ def are_heard_alike(bounds, row, run, gap):
         rule(parts, 2 * shift - apart)
         rule({at: -part for at, part in parts.items()}, 2 * shift + apart)
     return can_be_kept(rules, many)
+
+
+def fitting_rules(bounds, row, hearing):
+    """Rules for what the cells last above cell, and for the begin: one number less another one, the last two."""
+    cell, drift, shift = bounds[0], fraction(bounds[1]), fraction(bounds[2])
+    cells = sum(row)
+    rules = []
+
+    def rule(parts, most):
+        rules.append(([parts.get(at, 0) for at in range(cells + 2)], Fraction(most)))
+
+    for at in range(cells - 1):
+        rule({at: 1, at + 1: -1}, drift)
+        rule({at: -1, at + 1: 1}, drift)
+    for here, heard in zip([sum(row[:at]) for at in range(len(row) + 1)], map(fraction, hearing)):
+        parts = {**{at: 1 for at in range(here)}, cells: 1, cells + 1: -1}
+        rule(parts, heard + shift - here * cell)
+        rule({at: -part for at, part in parts.items()}, shift - heard + here * cell)
+    return rules
+
+
+def does_fit(bounds, row, hearing):
+    """Whether a row FITS a HEARING, asked of all TELLINGS at once."""
+    return len(hearing) == len(row) + 1 and can_be_kept(fitting_rules(bounds, row, hearing), sum(row) + 2)
+
+
+def can_end_so(bounds, row, hearing, cells, corner):
+    """Whether a TELLING over so many first cells of a row, which keeps all marks up to there, ends as a CORNER tells."""
+    marks = [sum(row[:at]) for at in range(len(row) + 1)]
+    kept = [mark for mark in marks if mark <= cells]
+    part = row[:len(kept) - 1] + ((cells - kept[-1],) if kept[-1] < cells else ())
+    moment, long = map(fraction, corner)
+    # Behind the last mark nothing is heard: what is asked there is a mark without a shift.
+    rules = fitting_rules(bounds, part, hearing[:len(kept)])
+    ends = [(1,) * cells + (1, -1), moment - cells * bounds[0]], [(0,) * (cells - 1) + (1, 0, 0), long - bounds[0]]
+    for factors, most in ends:
+        rules += [(factors, most), (tuple(-factor for factor in factors), -most)]
+    longest = fraction(hearing[1]) - fraction(hearing[0]) + 2 * fraction(bounds[2])
+    rules.append(((1,) + (0,) * (cells + 1), longest - bounds[0]))
+    return long >= bounds[0] and can_be_kept(rules, cells + 2)
+
+
+def swayed(bounds, cells, high, by):
+    """A RIDE that goes up and down as quickly as it may, between cell and high times drift above it."""
+    ways = [(at + by) % (2 * high) if high else 0 for at in range(cells)]
+    return tuple(told(bounds[0] + fraction(bounds[1]) * min(way, 2 * high - way)) for way in ways)
+
+
+def greatest_shifts(bounds, many, first=1):
+    """Shifts of the greatest size, to one side and the other one by turns."""
+    return tuple(told(fraction(bounds[2]) * (first if at % 2 == 0 else -first)) for at in range(many))
+
+
+def heard_by_chance(chance, bounds, row):
+    """A HEARING that fits a row, or does so but for one moment or all behind it, or one by chance alone."""
+    kind = chance.choice(("told", "told", "moved", "late", "any"))
+    if kind == "any":
+        end = (bounds[0] + 2) * (sum(row) + 1)
+        return tuple(map(told, sorted(Fraction(chance.randint(0, 3 * end), 3) for _ in range(len(row) + 1))))
+    shifts = some_shifts(chance, bounds, len(row) + 1)
+    begin, ride = some_telling(chance, bounds, sum(row))
+    moments = [fraction(begin) + sum(map(fraction, ride[:sum(row[:at])]), Fraction(0)) for at in range(len(row) + 1)]
+    moments = [moment + fraction(shift) for moment, shift in zip(moments, shifts)]
+    if kind != "told":
+        at, by = chance.randrange(len(moments)), Fraction(chance.randint(-12, 12), chance.randint(1, 4))
+        till = at + 1 if kind == "moved" else len(moments)
+        moments[at:till] = [moment + by for moment in moments[at:till]]
+    return tuple(map(told, sorted(moments)))

@@ -7,7 +7,7 @@ DOCUMENT = HERE.parent.parent / "shared" / "DOC.md"
 
 
 class TestExamples(unittest.TestCase):
-    """The examples of DOC.md as they stand there; of stage 4 those that ask for nothing but harms."""
+    """The examples of DOC.md, stage by stage, as they stand there."""
 
     def test_they_hold(self):
         for path in sorted((HERE / "examples").glob("*.txt")):

@@ -20,7 +20,18 @@ INTERFACE = {
     "slips": "heard_alike(bounds,run,gap) slip_of(bounds) is_slip(bounds,thing)",
     "harms": "gap_margin(bounds) least_watchful_cell(drift,shift,lo,most,lead) least_watchful_lead(cell,drift,shift,lo,most) "
              "is_watchful(bounds) is_harm_of(hearing,thing) is_mild(form,slot,hearing,thing) harmed(hearing,harm)",
+    "harmpairs": "blind_of(bounds) is_blind(bounds,thing) worst_of(bounds)",
+    "polygons": "polygon_of(corners) begun(bounds,low,high,longest) led_on(bounds,polygon) cut_to(polygon,low,high) "
+                "longs_at(polygon,moment) moments_in(polygon) has_point(polygon,corner)",
+    "tellings": "polygons_of(bounds,row,hearing) telling_for(bounds,row,hearing) do_fit(bounds,row,hearing)",
+    "hearer": "Hearer(bounds) rows_that_fit(bounds,hearing) led_rows_that_fit(bounds,hearing) told_run(bounds,row,hearing)",
+    "papers": "none_paper(bounds,row,hearing) all_paper(bounds,hearing) is_none_paper(bounds,row,hearing,thing) "
+              "is_all_paper(bounds,hearing,thing) rows_of_paper(hearing,paper)",
 }
+
+
+# The methods that DOC.md lists for classes, each to be defined in the class itself.
+METHODS = {"hearer": {"Hearer": "hear(moment) state() row() heard() twin()"}}
 
 
 class TestInterface(unittest.TestCase):
@@ -37,6 +48,15 @@ class TestInterface(unittest.TestCase):
                 if arguments:
                     found = [parameter for parameter in inspect.signature(told).parameters if parameter != "self"]
                     self.assertEqual(found, arguments.split(","), name)
+
+    def test_methods(self):
+        for module, classes in METHODS.items():
+            for name, listed in classes.items():
+                defined = vars(getattr(importlib.import_module(f"flutterheld.{module}"), name))
+                for entry in listed.split():
+                    method, _, arguments = entry.rstrip(")").partition("(")
+                    self.assertIn(method, defined)
+                    self.assertEqual(list(inspect.signature(defined[method]).parameters), ["self"] + arguments.split(",") * bool(arguments))
 
     def test_each_module_imports_only_those_ahead_of_it(self):
         order = list(INTERFACE)

@@ -92,9 +92,41 @@ class TestLanguage(unittest.TestCase):
             self.assertLessEqual(used, known, path)
 
     def test_l25_methods(self):
+        own = {part.name for _, node in self.walk() if isinstance(node, ast.ClassDef)
+               for part in node.body if isinstance(part, ast.FunctionDef)}
+        builtin = {"append", "extend", "copy", "get", "items", "index", "count", "pop", "bit_length"}
+        # A method of its own takes no name that values of Python's own have.
+        self.assertEqual({name for name in own if any(hasattr(value, name) for value in (0, "", b"", [], (), {}, set()))
+                          and not name.startswith("__")}, set())
         for path, node in self.walk():
             if isinstance(node, ast.Call) and isinstance(node.func, ast.Attribute):
-                self.assertIn(node.func.attr, ("append", "extend", "copy", "get", "items", "index", "count"), path)
+                self.assertIn(node.func.attr, builtin | own, path)
+
+    def test_l5_l18_classes(self):
+        for path, node in self.walk():
+            if isinstance(node, ast.ClassDef):
+                methods = [part.name for part in node.body if isinstance(part, ast.FunctionDef)]
+                self.assertEqual(len(methods), len(set(methods)), node.name)
+                double = {name for name in methods if name.startswith("__")}
+                self.assertLessEqual(double, {"__init__", "__eq__", "__repr__", "__str__", "__len__"}, node.name)
+                attributes = {part.attr for part in ast.walk(node) if isinstance(part, ast.Attribute) and isinstance(part.ctx, ast.Store)}
+                self.assertEqual(attributes & set(methods), set(), node.name)
+
+    def test_l3_no_name_within_a_plain_value(self):
+        for path, tree in self.trees.items():
+            for part in tree.body:
+                if isinstance(part, ast.Assign):
+                    self.assertEqual([node for node in ast.walk(part.value) if isinstance(node, (ast.Name, ast.Call))], [], path)
+
+    def test_l22_whole_calls_of_own_functions(self):
+        counts = {}
+        for path, tree in self.trees.items():
+            for part in tree.body:
+                if isinstance(part, ast.FunctionDef):
+                    counts.setdefault(part.name, set()).add(len(part.args.args))
+        for path, node in self.walk():
+            if isinstance(node, ast.Call) and isinstance(node.func, ast.Name) and node.func.id in counts:
+                self.assertIn(len(node.args), counts[node.func.id], (path, node.func.id))
 
 
 if __name__ == "__main__":
