@@ -27,6 +27,14 @@ INTERFACE = {
     "hearer": "Hearer(bounds) rows_that_fit(bounds,hearing) led_rows_that_fit(bounds,hearing) told_run(bounds,row,hearing)",
     "papers": "none_paper(bounds,row,hearing) all_paper(bounds,hearing) is_none_paper(bounds,row,hearing,thing) "
               "is_all_paper(bounds,hearing,thing) rows_of_paper(hearing,paper)",
+    "counts": "many_bodies(bounds,data) counts_to(bounds,data) bits_of(bounds,data) is_begun(bounds,data,row) "
+              "all_bodies(bounds,data)",
+    "ranks": "body_at(bounds,data,number) number_of(bounds,data,body)",
+    "densest": "plans_of(tape) densest(tape) best_plan(tape) bounds_of_plan(tape,plan) is_plan(tape,thing)",
+    "blocks": "width_of(form) number_of_block(form,block) is_block(form,thing) block_of_number(form,number) "
+              "block_of_row(form,row) full_row(form,block)",
+    "blockread": "row_told(form,hearing) row_by_trying(form,hearing) noticed(form,hearing) told(form,hearing) "
+                 "told_turned(form,hearing) read_slots(form,hearings)",
 }
 
 
