@@ -41,7 +41,8 @@ def polygons_of(bounds, row, hearing):
 
 def telling_for(bounds, row, hearing):
     """A TELLING that GIVES the HEARING for a row, None if there is none."""
-    if len(hearing) != len(row) + 1:
+    # Asked ahead of all, so that the cells of a far gap are not gone through where it cannot be.
+    if not do_fit(bounds, row, hearing):
         return None
     return telling_within(polygons_of(bounds, row, hearing), hearing)
 

@@ -10,8 +10,8 @@ from flutterheld.hearings import hearing_of
 from flutterheld.rides import mark_moments, steady
 from flutterheld.sure import is_sure, least_cell
 from flutterheld.tellings import do_fit
-from tests.plain import (ODD, bounds_of_all_sorts, deep, does_fit, fraction, greatest_shifts, heard_by_chance, nearly, some_row,
-                         some_shifts, some_telling, swayed, told)
+from tests.plain import (ODD, bounds_of_all_sorts, deep, does_fit, greatest_shifts, heard_by_chance, nearly, some_row,
+                         some_shifts, swayed, told)
 
 BOUNDS = (4, (1, 2), (1, 4), 1, 2, 1)
 HEARD = ((1, 1), (39, 4), (55, 4), (47, 2))

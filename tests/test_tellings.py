@@ -97,7 +97,8 @@ class TestFit(unittest.TestCase):
             self.assertFalse(self.check_fit(bounds, (2, gap + 1), hearing))
 
     def test_a_far_gap_is_no_trouble_where_it_cannot_be(self):
-        self.assertFalse(do_fit(BOUNDS, (2, 10 ** 12), ((0, 1), (8, 1), (100, 1))))
+        row, hearing = (2, 10 ** 12), ((0, 1), (8, 1), (100, 1))
+        self.assertEqual([do_fit(BOUNDS, row, hearing), telling_for(BOUNDS, row, hearing)], [False, None])
 
     def test_equal_arguments_give_equal_tellings(self):
         self.assertEqual(telling_for(BOUNDS, (2, 1, 2), HEARD), telling_for(BOUNDS, (2, 1, 2), tuple(list(HEARD))))
