@@ -4,6 +4,7 @@ from flutterheld.blocks import block_of_row
 from flutterheld.counts import all_bodies, is_begun, many_bodies
 from flutterheld.errors import TooMany
 from flutterheld.forms import are_all, is_full, lead_of
+from flutterheld.fractions import compared, lessened, over, whole
 from flutterheld.hearer import Hearer
 from flutterheld.rows import cells_of, mirrored
 from flutterheld.tellings import do_fit
@@ -13,12 +14,28 @@ MOST_TRIED = 500
 
 def row_told(form, hearing):
     """The FULL ROW that FITS a HEARING, None if none does."""
+    # No other one FITS if this one does, so a REEL that runs evenly is read at once.
+    even = even_row(form[0], hearing)
+    if is_full(form, even):
+        return even
     hearer = Hearer(form[0])
     for moment in hearing:
         hearer.hear(moment)
     row = hearer.row()
     # Behind a harm the row is shorter than what was heard.
     return row if len(hearing) == len(row) + 1 and is_full(form, row) else None
+
+
+def even_row(bounds, hearing):
+    """What is told if each cell lasts as long as those of the LEAD do together; None if it cannot be told so."""
+    most, lead = bounds[4], bounds[5]
+    if len(hearing) <= lead:
+        return None
+    lasting = over(lessened(hearing[lead], hearing[0]), whole(lead * most))
+    if compared(lasting, whole(bounds[0])) < 0:
+        return None
+    runs = [over(lessened(moment, ahead), lasting) for ahead, moment in zip(hearing, hearing[1:])]
+    return tuple([run[0] for run in runs]) if all([run[1] == 1 for run in runs]) else None
 
 
 def row_by_trying(form, hearing):

@@ -13,10 +13,14 @@ def many_bodies(bounds, data):
 def counts_to(bounds, data):
     """The tuple of the numbers of BODIES with 0, 1, .. data cells."""
     lo, most = bounds[3], bounds[4]
-    counts = [1]
+    counts, behind = [1], 0
     for cells in range(1, data + 1):
-        # Behind a first RUN stands a BODY with so many cells less.
-        counts.append(sum(counts[max(0, cells - most):max(0, cells - lo + 1)]))
+        # Behind a first RUN stands a BODY with lo, .. or most cells less: the sum of these goes along.
+        if cells >= lo:
+            behind += counts[cells - lo]
+        if cells > most:
+            behind -= counts[cells - most - 1]
+        counts.append(behind)
     return tuple(counts)
 
 

@@ -90,6 +90,32 @@ class TestRowTold(unittest.TestCase):
             self.assertEqual([other for other in full_rows(form) if do_fit(form[0], other, hearing)], [row])
             self.assertEqual([row_told(form, hearing), row_by_trying(form, hearing)], [row, row])
 
+    def test_even_hearings(self):
+        chance = random.Random(96)
+        found = []
+        for form in sure_forms():
+            for _ in range(8):
+                row = chance.choice(full_rows(form))
+                lasting = max(Fraction(1, 9), form[0][0] + Fraction(chance.choice((-9, -3, -1, 0, 1, 4)), chance.choice((1, 7, 90))))
+                begin = Fraction(chance.randint(-40, 40), 3)
+                heard = [begin + lasting * sum(row[:at]) for at in range(len(row) + 1)]
+                if chance.random() < 0.4:
+                    heard[chance.randrange(len(heard))] += Fraction(chance.choice((-1, 1)) * form[0][0], chance.choice((1, 2, 9)))
+                hearing = tuple(map(plain.told, sorted(heard)))
+                by_trying = row_by_trying(form, hearing)
+                self.assertEqual(row_told(form, hearing), by_trying, (form, hearing))
+                found.append((by_trying is None, lasting < form[0][0]))
+        self.assertEqual(len(set(found)), 4)
+
+    def test_cells_that_are_too_short(self):
+        # Evenly heard, but no cell may last so little; with no shift nothing else is left.
+        form = ((10, (1, 2), (0, 1), 2, 3, 2), 9, 2, 1)
+        self.assertTrue(is_sure(form[0]))
+        row = full_rows(form)[1]
+        for lasting, told_so in (((9, 1), None), ((999, 100), None), ((10, 1), row), ((1001, 100), row), ((10 ** 6, 1), row)):
+            hearing = mark_moments(((5, 3), (lasting,) * sum(row)), row)
+            self.assertEqual([row_told(form, hearing), row_by_trying(form, hearing)], [told_so, told_so])
+
     def test_fewer_and_more_items(self):
         form = ((22, (1, 2), (3, 2), 2, 3, 2), 5, 2, 1)
         hearing = calm(form, (3, 3, 2, 3, 3, 3))
