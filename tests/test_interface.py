@@ -1,5 +1,6 @@
 import importlib
 import inspect
+import pathlib
 import unittest
 
 # What DOC.md lists, module by module, in the order in which they are written.
@@ -35,11 +36,33 @@ INTERFACE = {
               "block_of_row(form,row) full_row(form,block)",
     "blockread": "row_told(form,hearing) row_by_trying(form,hearing) noticed(form,hearing) told(form,hearing) "
                  "told_turned(form,hearing) read_slots(form,hearings)",
+    "fields": "field_sum(one,other) field_less(one,other) field_product(one,other) field_inverse(one) value_of(polynomial,at) "
+              "value_at(points,at) through(points)",
+    "groups": "spread(form,words) is_group(form,thing) agree(form,known) restored(form,known) twin_groups(form,known) "
+              "parts_of(form,text) signs_in(form) text_of(form,parts)",
+    "reels": "is_beginning(form,thing) marks_in(beginning) way_between(one,other) stages_between(one,other) Deck(form,many)",
+    "heads": "calm(form,beginning) calm_reel(form,reel) read_back(form,heard) lost_places(form,reel,heard) "
+             "false_places(form,reel,heard)",
+    "deeds": "is_deed(thing) is_files(thing) led(files,deed) all_led(deeds) line_of(deed) deed_of(line) "
+             "blocks_of(form,epoch,number,deed) slots_for(form,deed)",
+    "epochs": "is_let_by(form) read_epoch(form,epoch,reel_told) opened(form,told) mends(form,told) due_reels(form,many,state)",
+    "archive": "Archive(deck,heard)",
+    "nights": "is_night(form,reel,thing) is_mild_night(form,reel,night) even_night(form,reel) swayed_night(form,reel,high,by) "
+              "swayed(bounds,cells,high,by)",
+    "heard": "heard_slot(slot,one) heard_reel(reel,night) heard_reel_back(reel,night) rows_told(form,reel,night) "
+             "whole_slots(form,reel,night) fits_none(form,slot,one)",
+    "desk": "Desk(form,many)",
 }
 
 
 # The methods that DOC.md lists for classes, each to be defined in the class itself.
-METHODS = {"hearer": {"Hearer": "hear(moment) state() row() heard() twin()"}}
+METHODS = {
+    "hearer": {"Hearer": "hear(moment) state() row() heard() twin()"},
+    "reels": {"Deck": "form() many() reel(which) steps() fuse() set_fuse(fuse) write(which,place,row) clear(which,place) twin()"},
+    "archive": {"Archive": "epoch() deeds() files() room() deck() is_mended() is_cut() set_fuse(fuse) twin() mend() put(name,text) "
+                           "strike(name) rename(name,new)"},
+    "desk": {"Desk": "execute(line) archive() deck() twin()"},
+}
 
 
 class TestInterface(unittest.TestCase):
@@ -65,6 +88,10 @@ class TestInterface(unittest.TestCase):
                     method, _, arguments = entry.rstrip(")").partition("(")
                     self.assertIn(method, defined)
                     self.assertEqual(list(inspect.signature(defined[method]).parameters), ["self"] + arguments.split(",") * bool(arguments))
+
+    def test_every_module_is_listed(self):
+        there = {path.stem for path in pathlib.Path(importlib.import_module("flutterheld").__file__).parent.glob("*.py")}
+        self.assertEqual(there - {"__init__"}, set(INTERFACE))
 
     def test_each_module_imports_only_those_ahead_of_it(self):
         order = list(INTERFACE)

@@ -4,7 +4,7 @@ import unittest
 
 PACKAGE = pathlib.Path(__file__).resolve().parent.parent / "flutterheld"
 BUILTINS = set("len range enumerate zip min max sum abs sorted reversed int str bool list tuple dict set isinstance ord repr any "
-               "all divmod ValueError True False None".split())
+               "all divmod pow ValueError True False None".split())
 BARRED = set("register mro elements open input law type typing enum eval exec getattr hasattr setattr globals locals vars id "
              "hash map filter round next iter print float chr super".split())
 LIBRARY = {"math": {"gcd", "isqrt"}}
@@ -48,7 +48,9 @@ class TestLanguage(unittest.TestCase):
                     folder, _, module = node.module.partition(".")
                     self.assertEqual(folder, "flutterheld", path)
                     tree = self.trees[PACKAGE / f"{module}.py"]
-                    self.assertLessEqual(names, {part.name for part in tree.body if hasattr(part, "name")}, path)
+                    defined = {part.name for part in tree.body if hasattr(part, "name")}
+                    defined |= {part.targets[0].id for part in tree.body if isinstance(part, ast.Assign)}
+                    self.assertLessEqual(names, defined, path)
 
     def test_l3_module_level(self):
         for path, tree in self.trees.items():
@@ -87,6 +89,7 @@ class TestLanguage(unittest.TestCase):
                 known |= {alias.name for alias in getattr(node, "names", ()) if isinstance(alias, ast.alias)}
                 known |= {node.name} if isinstance(node, (ast.FunctionDef, ast.ClassDef)) else set()
                 known |= {node.arg} if isinstance(node, ast.arg) else set()
+                known |= {node.name} if isinstance(node, ast.ExceptHandler) else set()
                 known |= {node.id} if isinstance(node, ast.Name) and isinstance(node.ctx, ast.Store) else set()
             used = {node.id for node in ast.walk(tree) if isinstance(node, ast.Name)}
             self.assertLessEqual(used, known, path)
@@ -94,10 +97,11 @@ class TestLanguage(unittest.TestCase):
     def test_l25_methods(self):
         own = {part.name for _, node in self.walk() if isinstance(node, ast.ClassDef)
                for part in node.body if isinstance(part, ast.FunctionDef)}
-        builtin = {"append", "extend", "copy", "get", "items", "index", "count", "pop", "bit_length"}
-        # A method of its own takes no name that values of Python's own have.
-        self.assertEqual({name for name in own if any(hasattr(value, name) for value in (0, "", b"", [], (), {}, set()))
-                          and not name.startswith("__")}, set())
+        builtin = set("append clear copy count endswith extend find get index insert items join keys lstrip partition pop remove replace "
+                      "rfind rpartition rstrip setdefault split startswith strip update values bit_length".split())
+        # A method of its own takes no name that values of Python's own have, but for those that L26 allows.
+        self.assertLessEqual({name for name in own if any(hasattr(value, name) for value in (0, "", b"", [], (), {}, set()))
+                              and not name.startswith("__")}, {"clear"})
         for path, node in self.walk():
             if isinstance(node, ast.Call) and isinstance(node.func, ast.Attribute):
                 self.assertIn(node.func.attr, builtin | own, path)
