@@ -17,7 +17,7 @@ class Hearer:
         self._bounds = bounds
         self._row = ()
         self._heard = ()
-        # What may be true at the last mark that fits; None as long as there is no cell.
+        # What may be true at the last mark that fits, in units; None as long as there is no cell.
         self._polygon = None
         # The last moment handed in, behind a harm, too.
         self._last = None

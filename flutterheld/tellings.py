@@ -4,8 +4,8 @@ The POLYGON at the end of a cell holds all that can be true there by the marks s
 has to be asked again.
 """
 
-from flutterheld.fractions import added, compared, greatest_of, least_of, lessened, times
-from flutterheld.polygons import begun, cut_to, led_on, longs_at
+from flutterheld.fractions import added, greatest_of, least_of, lessened, times
+from flutterheld.polygons import begun, coarsest, cut_to, cut_to_units, in_units, led_on, led_on_units, longs_at
 
 
 def first_cell(bounds, heard, following):
@@ -65,32 +65,39 @@ def telling_within(polygons, hearing):
 
 
 def fitting_runs(bounds, ahead, heard, moment, least, most):
-    """Tuples (run, POLYGON) for each run from least to most whose mark may be heard at a moment.
+    """Tuples (run, POLYGON in units) for each run from least to most whose mark may be heard at a moment.
 
-    ahead is the POLYGON at the last mark, None at the first one; heard is the moment at which that was heard.
+    ahead is the POLYGON at the last mark, in units, None at the first one; heard is the moment at which that was heard.
     """
-    latest = added(moment, bounds[2])
-    polygon, found = ahead, []
+    earliest, latest = lessened(moment, bounds[2]), added(moment, bounds[2])
+    units, found = ahead, []
     for run in range(1, most + 1):
-        polygon = next_cell(bounds, polygon, heard, moment)
+        units = in_units(first_cell(bounds, heard, moment)) if units is None else led_on_units(bounds, units)
         # What is too late already is still later behind each further cell.
-        if polygon == () or compared(polygon[0][0], latest) > 0:
+        if is_behind(units, latest):
             break
-        left = cut_about(bounds, polygon, moment) if run >= least else ()
-        if left != ():
-            found.append((run, left))
+        if run >= least:
+            left = cut_to_units(units, earliest, latest)
+            if left[1]:
+                found.append((run, coarsest(left)))
     return found
 
 
+def is_behind(units, moment):
+    """Whether all points of a POLYGON, in units, have a later moment; perhaps there are none."""
+    unit, corners = units
+    return not corners or corners[0][0] * moment[1] > moment[0] * unit
+
+
 def last_polygon(bounds, row, hearing):
-    """The POLYGON at the last mark of a row: None ahead of the first cell, () if as many first items do not fit."""
-    polygon = None
+    """The POLYGON, in units, at the last mark: None ahead of the first cell, () if as many first items do not fit."""
+    units = None
     for run, heard, moment in zip(row, hearing, hearing[1:]):
-        found = fitting_runs(bounds, polygon, heard, moment, run, run)
+        found = fitting_runs(bounds, units, heard, moment, run, run)
         if not found:
             return ()
-        polygon = found[0][1]
-    return polygon
+        units = found[0][1]
+    return units
 
 
 def do_fit(bounds, row, hearing):

@@ -7,7 +7,7 @@ BUILTINS = set("len range enumerate zip min max sum abs sorted reversed int str 
                "all divmod pow ValueError True False None".split())
 BARRED = set("register mro elements open input law type typing enum eval exec getattr hasattr setattr globals locals vars id "
              "hash map filter round next iter print float chr super".split())
-LIBRARY = {"math": {"gcd", "isqrt"}}
+LIBRARY = {"math": {"gcd", "isqrt", "lcm"}}
 
 
 class TestLanguage(unittest.TestCase):
